@@ -1,0 +1,1 @@
+"""Carpets: overlays, refinements and parts of periodic colourings."""
