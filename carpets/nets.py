@@ -151,6 +151,12 @@ def divisors(number):
     return [k for k in range(1, number + 1) if number % k == 0]
 
 
+def prime_divisors(number):
+    """The primes that divide a number from 1, in ascending order."""
+    found = divisors(number)
+    return [k for k in found if len([d for d in found if k % d == 0]) == 2]
+
+
 def nets_of_size(size):
     """Yield all nets of a size, ordered by c and then by b."""
     if not is_integer(size) or size < 1 or size > SIZE_LIMIT:
@@ -171,3 +177,14 @@ def nets_above(net):
             if net.is_within(above):
                 found.append(above)
     return found
+
+
+def common_net(nets, limit):
+    """The net of the shifts that belong to all nets; raises LimitExceeded(limit) if its size is greater."""
+    common = Net.whole()
+    for net in nets:
+        common = common & net
+        # Further nets only take shifts away, so the size never becomes less again.
+        if common.size > limit:
+            raise LimitExceeded(limit)
+    return common

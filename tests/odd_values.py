@@ -21,6 +21,11 @@ NO_PLACES = NO_INTEGERS + [
     (0.0, 0), (0, 1.0), ("0", "0"), ([0], 0), ((0, 0), 0), {0: 0, 1: 0}, {0, 1}, (Stubborn(), 0), (0, Stubborn()),
 ]
 
+NO_COLOURS = NO_INTEGERS + [
+    0, 97, "A", "Z", "ab", "aa", " ", "a ", "\n", "-", "`", "{", "\u00e9", "\u00aa", "\u0430", b"a", ["a"], ("a",),
+    {"a"}, {"a": "b"},
+]
+
 
 def assert_raises(case, error, field, value, call, *rest, **more):
     """Assert that a call raises exactly this error, with exactly this object in its field."""

@@ -37,6 +37,16 @@ BARRED_WORDS = set(
 
 BARRED_NAMES = set("register mro elements open input law version_info with_traceback add_note type".split())
 
+# The methods of strings, numbers, lists, dicts and sets that the package may call.
+BUILTIN_METHODS = set(
+    "append clear copy count endswith extend find get index insert isalnum isalpha isdigit islower isspace isupper "
+    "items join keys ljust lower lstrip partition pop remove replace reverse rfind rjust rpartition rsplit rstrip "
+    "setdefault split splitlines startswith strip update upper values zfill bit_length add discard".split()
+)
+
+# What is iterated on the spot, but not in set(..).
+VIEWS = {"zip", "enumerate", "reversed", "range", "items", "keys", "values"}
+
 ARITHMETIC = "add sub mul floordiv mod pow and or xor lshift rshift".split()
 SPECIAL_METHODS = {
     f"__{name}__"
@@ -68,6 +78,13 @@ def bound_names(node):
     if isinstance(node, ast.ImportFrom):
         return [alias.asname or alias.name for alias in node.names]
     return []
+
+
+def called(node):
+    """The name of the function or the method that a node calls, or None."""
+    if not isinstance(node, ast.Call):
+        return None
+    return node.func.id if isinstance(node.func, ast.Name) else getattr(node.func, "attr", None)
 
 
 class Files(unittest.TestCase):
@@ -160,6 +177,27 @@ class Names(unittest.TestCase):
             if node.name.startswith("__"):
                 self.assertIn(node.name, SPECIAL_METHODS, where)
 
+    def test_a_class_with_brackets_says_how_it_is_iterated_over(self):
+        for where, node in nodes(ast.ClassDef):
+            methods = {inner.name for inner in node.body if isinstance(inner, ast.FunctionDef)}
+            self.assertTrue("__getitem__" not in methods or "__iter__" in methods, where)
+
+    def test_a_property_shares_its_name_with_no_function(self):
+        functions = [node for _, node in nodes(ast.FunctionDef)]
+        properties = {node.name for node in functions if "property" in map(ast.unparse, node.decorator_list)}
+        for node in functions:
+            if node.name in properties:
+                self.assertEqual([ast.unparse(one) for one in node.decorator_list], ["property"], node.name)
+        self.assertFalse(properties & BUILTIN_METHODS)
+
+    def test_operators_call_nothing_that_they_are_passed(self):
+        for where, node in nodes(ast.FunctionDef):
+            if node.name in SPECIAL_METHODS:
+                passed = {parameter.arg for parameter in node.args.args}
+                for inner in ast.walk(node):
+                    if isinstance(inner, ast.Call) and isinstance(inner.func, ast.Name):
+                        self.assertNotIn(inner.func.id, passed, where)
+
     def test_a_generator_shares_its_name_with_nothing(self):
         functions = [node for _, node in nodes(ast.FunctionDef)]
         yielding = [
@@ -194,6 +232,32 @@ class Statements(unittest.TestCase):
             for sign, side in zip(node.ops, node.comparators):
                 if isinstance(sign, (ast.Is, ast.IsNot)):
                     self.assertIsInstance(side, ast.Constant, where)
+
+    def test_no_generator_expressions(self):
+        for where, node in nodes(ast.GeneratorExp):
+            self.fail(where)
+
+    def test_sets_are_measured_or_sorted_at_once(self):
+        for where, node in nodes(ast.AST):
+            for child in ast.iter_child_nodes(node):
+                is_call = isinstance(child, ast.Call) and called(child) == "set"
+                if is_call:
+                    self.assertNotIn(called(child.args[0]), VIEWS, where)
+                if is_call or isinstance(child, (ast.Set, ast.SetComp)):
+                    self.assertIn(called(node), ("sorted", "len"), where)
+                    self.assertEqual(node.keywords, [], where)
+
+    def test_only_listed_methods_of_builtin_values(self):
+        own = {node.name for _, node in nodes(ast.FunctionDef)}
+        for where, node in nodes(ast.Call):
+            if isinstance(node.func, ast.Attribute):
+                self.assertIn(node.func.attr, own | BUILTIN_METHODS, where)
+
+    def test_plain_names_behind_stars_in_calls(self):
+        for where, node in nodes(ast.Call):
+            for given in node.args:
+                if isinstance(given, ast.Starred):
+                    self.assertIsInstance(given.value, ast.Name, where)
 
     def test_no_floats_and_no_percent_signs(self):
         for where, node in nodes(ast.Constant):
