@@ -3,7 +3,7 @@
 from carpets.checks import check_colour, is_integer, is_letters
 from carpets.errors import InvalidNumber, InvalidRows, InvalidText, LimitExceeded
 from carpets.motions import turned
-from carpets.nets import Net, common_net, prime_divisors, two_shifts
+from carpets.nets import Net, cell_places, common_net, prime_divisors, two_shifts
 
 ROW_LIMIT = 100
 LETTER_LIMIT = 1000
@@ -151,7 +151,7 @@ class Carpet:
     def __mul__(self, other):
         net = self._net * other
         back = ~other
-        text = "".join([self[turned(back.kind, place)] for place in net.cell()])
+        text = "".join([self[turned(back.kind, place)] for place in cell_places(net)])
         return Carpet.on(net, moved(net, text, other.shift))
 
     def __eq__(self, other):

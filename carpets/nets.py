@@ -179,6 +179,15 @@ def nets_above(net):
     return found
 
 
+def cell_places(net):
+    """The list of the places of the cell of a net, in place order.
+
+    What an operator or a property runs must not yield, so that it takes this list instead of Net.cell.
+    """
+    a, _, c = net.numbers
+    return [(x, y) for y in range(c) for x in range(a)]
+
+
 def common_net(nets, limit):
     """The net of the shifts that belong to all nets; raises LimitExceeded(limit) if its size is greater."""
     common = Net.whole()

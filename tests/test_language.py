@@ -54,6 +54,9 @@ SPECIAL_METHODS = {
     "setitem".split() + [sign + name for sign in ("", "r", "i") for name in ARITHMETIC]
 }
 
+# These are run when they are called or iterated over, not by a sign or by reading an attribute.
+NO_OPERATORS = {"__init__", "__iter__", "__call__", "__enter__", "__exit__"}
+
 
 def parsed(path):
     return ast.parse(path.read_text(encoding="utf-8"))
@@ -85,6 +88,41 @@ def called(node):
     if not isinstance(node, ast.Call):
         return None
     return node.func.id if isinstance(node.func, ast.Name) else getattr(node.func, "attr", None)
+
+
+def is_property(node):
+    """Whether a node is the function of a property."""
+    return isinstance(node, ast.FunctionDef) and "property" in map(ast.unparse, node.decorator_list)
+
+
+def yields(node):
+    """Whether a function is a generator."""
+    return any(isinstance(inner, (ast.Yield, ast.YieldFrom)) for inner in ast.walk(node))
+
+
+def functions_by_name():
+    """For each name, the functions and methods that a call of this name may run; for a class, its __init__."""
+    found = {}
+    for _, node in nodes(ast.FunctionDef):
+        found.setdefault(node.name, []).append(node)
+    for _, node in nodes(ast.ClassDef):
+        made = [inner for inner in node.body if isinstance(inner, ast.FunctionDef) and inner.name == "__init__"]
+        found.setdefault(node.name, []).extend(made)
+    return found
+
+
+def run_by(function):
+    """All functions that a function may run, itself included, as far as names tell."""
+    named = functions_by_name()
+    waiting = [function]
+    found = {}
+    while waiting:
+        node = waiting.pop()
+        if id(node) not in found:
+            found[id(node)] = node
+            for inner in ast.walk(node):
+                waiting.extend(named.get(called(inner), []))
+    return list(found.values())
 
 
 class Files(unittest.TestCase):
@@ -184,7 +222,7 @@ class Names(unittest.TestCase):
 
     def test_a_property_shares_its_name_with_no_function(self):
         functions = [node for _, node in nodes(ast.FunctionDef)]
-        properties = {node.name for node in functions if "property" in map(ast.unparse, node.decorator_list)}
+        properties = {node.name for node in functions if is_property(node)}
         for node in functions:
             if node.name in properties:
                 self.assertEqual([ast.unparse(one) for one in node.decorator_list], ["property"], node.name)
@@ -200,12 +238,16 @@ class Names(unittest.TestCase):
 
     def test_a_generator_shares_its_name_with_nothing(self):
         functions = [node for _, node in nodes(ast.FunctionDef)]
-        yielding = [
-            node.name for node in functions
-            if any(isinstance(inner, (ast.Yield, ast.YieldFrom)) for inner in ast.walk(node))
-        ]
-        for name in yielding:
+        for name in [node.name for node in functions if yields(node)]:
             self.assertEqual([node.name for node in functions].count(name), 1, name)
+
+    def test_no_operator_and_no_property_runs_a_generator(self):
+        operators = SPECIAL_METHODS - NO_OPERATORS
+        roots = [(where, node) for where, node in nodes(ast.FunctionDef) if node.name in operators or is_property(node)]
+        self.assertGreater(len(roots), 20)
+        for where, node in roots:
+            for inner in run_by(node):
+                self.assertFalse(yields(inner), (where, node.name, inner.name))
 
 
 class Statements(unittest.TestCase):
