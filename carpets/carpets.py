@@ -1,27 +1,14 @@
 """Carpets: colourings of the plane grid that repeat in two directions."""
 
-from carpets.checks import check_colour, is_integer, is_letters
-from carpets.errors import InvalidNumber, InvalidRows, InvalidText, LimitExceeded
+from carpets.checks import LETTERS, check_colour, check_rows, is_integer, is_letters
+from carpets.errors import InvalidNumber, InvalidText, LimitExceeded
+from carpets.fitting import fitting
 from carpets.motions import turned
 from carpets.nets import Net, cell_places, common_net, prime_divisors, two_shifts
 
 ROW_LIMIT = 100
 LETTER_LIMIT = 1000
 CELL_LIMIT = 2000
-
-
-def is_row(value):
-    """Whether any value is a text of 1 to 100 letters."""
-    return is_letters(value) and 1 <= len(value) <= ROW_LIMIT
-
-
-def check_rows(rows):
-    """Raise InvalidRows unless any value is a list or tuple of 1 to 100 rows of one length."""
-    if not isinstance(rows, (list, tuple)) or not 1 <= len(rows) <= ROW_LIMIT:
-        raise InvalidRows(None)
-    for index, row in enumerate(rows):
-        if not is_row(row) or len(row) != len(rows[0]):
-            raise InvalidRows(index)
 
 
 def rotated(text, width, by):
@@ -79,7 +66,7 @@ class Carpet:
     """A colour for every place, kept by the shifts of a net. Carpets never change."""
 
     def __init__(self, rows, *, shift=0):
-        check_rows(rows)
+        check_rows(rows, LETTERS, ROW_LIMIT)
         width = len(rows[0])
         if width * len(rows) > LETTER_LIMIT:
             raise LimitExceeded(LETTER_LIMIT)
@@ -140,6 +127,9 @@ class Carpet:
 
     def __iter__(self):
         raise TypeError("a carpet has no first place")
+
+    def __contains__(self, x):
+        return len(fitting(self._net, self._text, x.rows, cell_places(self._net))) > 0
 
     def __add__(self, other):
         return Carpet.on(self._net, moved(self._net, self._text, other))

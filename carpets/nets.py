@@ -2,8 +2,8 @@
 
 from math import gcd
 
-from carpets.checks import check_place, is_integer, is_place
-from carpets.errors import InvalidNet, InvalidNumber, LimitExceeded
+from carpets.checks import check_number, check_place, check_positive, is_integer, is_place
+from carpets.errors import InvalidNet, LimitExceeded
 from carpets.motions import turned
 
 SIZE_LIMIT = 10000
@@ -134,8 +134,7 @@ class Net:
 
     def scaled(self, factor):
         """The net of all shifts of the net multiplied by an integer from 1."""
-        if not is_integer(factor) or factor < 1:
-            raise InvalidNumber(factor)
+        check_positive(factor)
         a, b, c = self._numbers
         return Net(a * factor, b * factor, c * factor)
 
@@ -159,8 +158,7 @@ def prime_divisors(number):
 
 def nets_of_size(size):
     """Yield all nets of a size, ordered by c and then by b."""
-    if not is_integer(size) or size < 1 or size > SIZE_LIMIT:
-        raise InvalidNumber(size)
+    check_number(size, SIZE_LIMIT)
     for c in divisors(size):
         a = size // c
         for b in range(a):

@@ -1,8 +1,10 @@
 """The words of the document written out a second time, slowly, and sample values for the tests."""
 
+import fractions
 import itertools
 
 from carpets.carpets import Carpet
+from carpets.motions import Motion
 from carpets.nets import Net
 
 BIG = 123456789012345678901234567890
@@ -71,3 +73,55 @@ SAMPLES = [
     Carpet(["aba"], shift=1), Carpet(["abc"], shift=-1), Carpet(["ab", "cd"]), Carpet(["aab", "abb"]),
     Carpet(["abcd"], shift=2), Carpet(["bbac", "abca"], shift=1), Carpet(["ab", "ba", "ca"], shift=1),
 ]
+
+MOTIONS = [Motion(kind, shift) for kind in Motion.KINDS for shift in ((0, 0), (2, -1))] + [Motion.by((BIG, -BIGGER))]
+
+# One colour for each of four, and back again: no two of them become one.
+EXCHANGE = {"a": "d", "b": "z", "c": "a", "d": "b", "e": "c"}
+
+
+def exchanged(text):
+    """A text with each of its colours exchanged."""
+    return "".join(EXCHANGE.get(letter, letter) for letter in text)
+
+
+def square(radius):
+    """The places of a square around (0, 0), in place order."""
+    return [(x, y) for y in range(-radius, radius + 1) for x in range(-radius, radius + 1)]
+
+
+def around(place):
+    """The four neighbours of a place."""
+    x, y = place
+    return [(x + 1, y), (x - 1, y), (x, y + 1), (x, y - 1)]
+
+
+def flooded(carpet, radius):
+    """For each place of a square, a place that is the same one exactly for places joined within the square."""
+    roots = {}
+    for start in square(radius):
+        if start not in roots:
+            roots[start] = start
+            waiting = [start]
+            while waiting:
+                place = waiting.pop()
+                for near in around(place):
+                    inside = max(abs(near[0]), abs(near[1])) <= radius
+                    if inside and near not in roots and carpet[near] == carpet[start]:
+                        roots[near] = start
+                        waiting.append(near)
+    return roots
+
+
+def fits(carpet, rows, place):
+    """Whether rows of letters and dots fit at a place, sign by sign."""
+    x, y = place
+    return all(
+        sign in (".", carpet[x + i, y + j]) for j, row in enumerate(rows) for i, sign in enumerate(row)
+    )
+
+
+def share_of(number, size):
+    """A share in lowest terms, by the standard library."""
+    share = fractions.Fraction(number, size)
+    return (share.numerator, share.denominator)
