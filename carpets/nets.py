@@ -49,6 +49,13 @@ def spanned(shifts):
     return numbers
 
 
+def home(numbers, place):
+    """The place of the cell that differs from a place by a shift of the net with these numbers."""
+    a, b, c = numbers
+    x, y = place
+    return ((x - y // c * b) % a, y % c)
+
+
 class Net:
     """The net of the sums of multiples of (a, 0) and (b, c). Nets never change."""
 
@@ -106,9 +113,7 @@ class Net:
     def reduced(self, place):
         """The place of the cell that differs from a place by a shift of the net."""
         check_place(place)
-        a, b, c = self._numbers
-        x, y = place
-        return ((x - y // c * b) % a, y % c)
+        return home(self._numbers, place)
 
     def order(self, shift):
         """The least n >= 1 such that n times the shift belongs to the net."""

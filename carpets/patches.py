@@ -1,6 +1,6 @@
 """Patches, windows, and where they fit on a carpet."""
 
-from carpets.checks import LETTERS, check_number, check_place, check_rows
+from carpets.checks import LETTERS, check_number, check_rows
 from carpets.errors import LimitExceeded
 from carpets.fitting import ANY_COLOUR, fitting, long_rows
 from carpets.nets import cell_places
@@ -46,7 +46,6 @@ def occurrences(carpet, patch):
 
 def next_occurrence(carpet, patch, place):
     """The first place at which a patch fits, from a place to the right, or None."""
-    check_place(place)
     x, y = carpet.net.reduced(place)
     a = carpet.net.numbers[0]
     found = fitting(carpet.net, carpet.text, patch.rows, [((x + k) % a, y) for k in range(a)])

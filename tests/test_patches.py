@@ -100,7 +100,9 @@ class Patches(unittest.TestCase):
             self.assertIs(patch != value, True)
 
     def test_rows_that_are_no_list_or_tuple(self):
-        values = [None, True, 0, 7, 1.5, "ab", b"ab", {"ab"}, {"ab": 1}, iter(["ab"]), range(2), Carpet(["a"]), Stubborn()]
+        values = [
+            None, True, 0, 7, 1.5, "ab", b"ab", {"ab"}, {"ab": 1}, iter(["ab"]), range(2), Carpet(["a"]), Stubborn(),
+        ]
         for value in values:
             assert_raises(self, InvalidRows, "index", None, Patch, value)
 
